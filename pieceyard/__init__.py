@@ -1,0 +1,1 @@
+"""Pieceyard: board games as data, trees as papers, and problems."""
