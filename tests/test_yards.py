@@ -3,20 +3,9 @@ import unittest
 
 from pieceyard.errors import BadYard, YardError
 from pieceyard.yards import Yard
-from tests.samples import king_steps, parts, plain_yard, rook_steps, yard_of
+from tests.samples import fields, king_steps, parts, plain_yard, rook_steps, yard_of
 
 LETTERS = "abcdefghijklmnopqrstuvwxyz"
-
-
-def fields(yard):
-    return {
-        "height": yard.height,
-        "width": yard.width,
-        "holes": yard.holes,
-        "kinds": yard.kinds,
-        "goals": yard.goals,
-        "stuck": yard.stuck,
-    }
 
 
 def lists_within(yard):
