@@ -1,7 +1,7 @@
 """A position: the side to move, and the pieces on the board."""
 
-from pieceyard.errors import BadPosition
-from pieceyard.forms import is_rising, is_tuple, is_within
+from pieceyard.errors import BadPosition, BadSide
+from pieceyard.forms import check_many, is_rising, is_tuple, is_within
 from pieceyard.yards import is_ground
 
 MOST_PIECES = 10
@@ -23,6 +23,17 @@ def placed(yard, turn, pieces):
 def check_position(yard, position):
     if not is_position(yard, position):
         raise BadPosition("this is no position of the yard")
+
+
+def check_side(side):
+    if not is_side(side):
+        raise BadSide("a side is 0 or 1")
+
+
+def check_asked(yard, position, side, many, most):
+    check_position(yard, position)
+    check_side(side)
+    check_many(many, 0, most)
 
 
 def are_pieces(yard, pieces):

@@ -67,3 +67,109 @@ def lines(yard, position, many):
     for move in moves(yard, position):
         found.extend([move] + rest for rest in lines(yard, after(position, move), many - 1))
     return found
+
+
+NAMES = [x + word + str(number) for x in ("", "x") for word in ("turn", "flip") for number in range(4)]
+
+
+def cell_over(yard, name, cell):
+    # The board is laid out with each cell's first place written on it; then the whole board is mirrored and turned.
+    board = [[(r, c) for c in range(yard.width)] for r in range(yard.height)]
+    if "flip" in name:
+        board = [row[::-1] for row in board]
+    for turn in range(int(name[-1])):
+        board = [list(row) for row in zip(*board[::-1])]
+    for r, row in enumerate(board):
+        if cell in row:
+            return (r, row.index(cell))
+    return None
+
+
+def position_over(yard, name, position):
+    turn, pieces = position
+    x = int(name[0] == "x")
+    return (turn ^ x, tuple(sorted((cell_over(yard, name, cell), side ^ x, kind) for cell, side, kind in pieces)))
+
+
+def step_over(name, step):
+    # By the formulas of the document, told anew as factors.
+    dr, dc = step
+    if "flip" in name:
+        dc = -dc
+    dr, dc = {0: (dr, dc), 1: (dc, -dr), 2: (-dr, -dc), 3: (-dc, dr)}[int(name[-1])]
+    return (-dr, -dc) if name[0] == "x" else (dr, dc)
+
+
+def bears(yard):
+    found = []
+    for name in NAMES:
+        x = int(name[0] == "x")
+        fits = int(name[-1]) % 2 == 0 or yard.height == yard.width
+        if fits:
+            fits = {cell_over(yard, name, hole) for hole in yard.holes} == set(yard.holes)
+            for side in (0, 1):
+                goals = {cell_over(yard, name, goal) for goal in yard.goals[side]}
+                fits = fits and goals == set(yard.goals[side ^ x])
+            for leaps, rides, crown in yard.kinds.values():
+                fits = fits and {step_over(name, step) for step in leaps} == set(leaps)
+                fits = fits and {step_over(name, step) for step in rides} == set(rides)
+        if fits:
+            found.append(name)
+    return found
+
+
+def wins(yard, position, side, many):
+    ended = verdict(yard, position)
+    if ended is not None or many == 0:
+        return ended == side
+    behind = [wins(yard, after(position, move), side, many - 1) for move in moves(yard, position)]
+    return any(behind) if position[0] == side else all(behind)
+
+
+def least(yard, position, side, most):
+    for many in range(most + 1):
+        if wins(yard, position, side, many):
+            return many
+    return None
+
+
+def win_holds(yard, position, side, many, tree):
+    ended = verdict(yard, position)
+    if tree == ("won",):
+        return ended == side
+    if ended is not None or many == 0:
+        return False
+    if position[0] == side:
+        return (
+            tree[0] == "move" and tree[1] in moves(yard, position)
+            and win_holds(yard, after(position, tree[1]), side, many - 1, tree[2])
+        )
+    return (
+        tree[0] == "all" and [move for move, rest in tree[1]] == moves(yard, position)
+        and all(win_holds(yard, after(position, move), side, many - 1, rest) for move, rest in tree[1])
+    )
+
+
+def not_holds(yard, position, side, many, tree):
+    ended = verdict(yard, position)
+    if tree == ("not",):
+        return ended != side if many == 0 else ended not in (side, None)
+    if ended is not None or many == 0:
+        return False
+    if position[0] != side:
+        return (
+            tree[0] == "move" and tree[1] in moves(yard, position)
+            and not_holds(yard, after(position, tree[1]), side, many - 1, tree[2])
+        )
+    return (
+        tree[0] == "all" and [move for move, rest in tree[1]] == moves(yard, position)
+        and all(not_holds(yard, after(position, move), side, many - 1, rest) for move, rest in tree[1])
+    )
+
+
+def depth(tree):
+    if len(tree) == 1:
+        return 0
+    if tree[0] == "move":
+        return depth(tree[2]) + 1
+    return max(depth(rest) for move, rest in tree[1]) + 1

@@ -285,13 +285,14 @@ class NamesTest(unittest.TestCase):
 
     def test_attributes(self):
         methods = own_methods() | set(PYTHONS_METHODS)
+        values = own_values()
         for place, node in each(ast.Attribute):
             self.assertNotIn(node.attr, NEVER, place)
             self.assertRegex(node.attr, r"\A([A-Za-z][A-Za-z0-9_]*|__init__)\Z", place)
             if isinstance(node.above, ast.Call) and node.above.func is node:
                 self.assertIn(node.attr, methods, place)
             else:
-                self.assertIn(node.attr, own_values(), place)
+                self.assertIn(node.attr, values, place)
 
     def test_python_s_own_are_called(self):
         for place, node in each(ast.Name):
