@@ -173,3 +173,121 @@ def depth(tree):
     if tree[0] == "move":
         return depth(tree[2]) + 1
     return max(depth(rest) for move, rest in tree[1]) + 1
+
+
+def reach(yard, position):
+    found = {position}
+    fresh = found
+    while fresh:
+        fresh = {after(place, move) for place in fresh for move in moves(yard, place)} - found
+        found = found | fresh
+    return sorted(found)
+
+
+def ranks(yard, position):
+    # By rounds over both sides: who has won within 0 moves, within 1, and so on, until nothing is new.
+    places = reach(yard, position)
+    behind = {place: [after(place, move) for move in moves(yard, place)] for place in places}
+    told = {place: None for place in places}
+    won = [{place for place in places if verdict(yard, place) == side} for side in (0, 1)]
+    number = 0
+    while True:
+        fresh = False
+        for side in (0, 1):
+            for place in won[side]:
+                if told[place] is None:
+                    told[place] = (side, number)
+                    fresh = True
+        if not fresh:
+            return told
+        number += 1
+        more = [set(won[0]), set(won[1])]
+        for side in (0, 1):
+            for place in places:
+                if behind[place]:
+                    inside = [other in won[side] for other in behind[place]]
+                    if (any if place[0] == side else all)(inside):
+                        more[side].add(place)
+        won = more
+
+
+def stay_holds(yard, position, side, told):
+    if told != sorted(set(told)) or position not in told:
+        return False
+    for place in told:
+        ended = verdict(yard, place)
+        if ended == 1 - side:
+            return False
+        if ended is None:
+            inside = [after(place, move) in told for move in moves(yard, place)]
+            if not (any if place[0] == side else all)(inside):
+                return False
+    return True
+
+
+def keys(yard, position, many):
+    return [
+        move for move in moves(yard, position) if wins(yard, after(position, move), position[0], many - 1)
+    ]
+
+
+def sound(yard, position, many):
+    if len(keys(yard, position, many)) != 1:
+        return False
+    return many == 1 or not wins(yard, position, position[0], many - 2)
+
+
+def tries(yard, position, many):
+    # The moves and their answers alone: which tree is told with them is not promised.
+    found = []
+    for move in moves(yard, position):
+        behind = after(position, move)
+        answers = moves(yard, behind)
+        if many > 1 and move not in keys(yard, position, many) and len(answers) > 1:
+            wrong = [
+                answer for answer in answers if not wins(yard, after(behind, answer), position[0], many - 2)
+            ]
+            if len(wrong) == 1:
+                found.append((move, wrong[0]))
+    return found
+
+
+def together(yard, position, side, many):
+    for number in range(many + 1):
+        found = []
+        for line in lines(yard, position, number):
+            place = position
+            for move in line:
+                place = after(place, move)
+            if verdict(yard, place) == side:
+                found.append(line)
+        if found:
+            return (number, found)
+    return None
+
+
+def least_positions(yard, position, many):
+    turn, pieces = position
+    movable = [piece for piece in pieces if not yard.kinds[piece[2]][2]]
+    found = []
+    for chosen in range(2 ** len(movable)):
+        gone = [piece for at, piece in enumerate(movable) if chosen >> at & 1]
+        place = (turn, tuple(piece for piece in pieces if piece not in gone))
+        if sound(yard, place, many):
+            found.append(place)
+    fewest = min(len(place[1]) for place in found)
+    return sorted(place for place in found if len(place[1]) == fewest)
+
+
+def solved(yard, position, side, most):
+    # The one win tree of [6.2].
+    if verdict(yard, position) == side:
+        return ("won",)
+    behind = [(move, after(position, move)) for move in moves(yard, position)]
+    if position[0] != side:
+        return ("all", [(move, solved(yard, place, side, most - 1)) for move, place in behind])
+    numbers = {move: least(yard, place, side, most - 1) for move, place in behind}
+    fewest = min(number for number in numbers.values() if number is not None)
+    for move, place in behind:
+        if numbers[move] == fewest:
+            return ("move", move, solved(yard, place, side, most - 1))

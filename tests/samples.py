@@ -4,6 +4,7 @@ import random
 
 from pieceyard.positions import placed
 from pieceyard.yards import Yard
+from tests import naive
 
 
 def king_steps():
@@ -96,6 +97,42 @@ def chance_positions(yard, many, most_pieces, seed):
         for cell in chosen[2:]:
             pieces.append((cell, source.randrange(2), source.choice(sorted(yard.kinds))))
         found.append(placed(yard, source.randrange(2), pieces))
+    return found
+
+
+def lanes_yard():
+    # Each crown goes to and fro in a row of its own, for ever.
+    return Yard(2, 2, [], {"k": ([(0, -1), (0, 1)], [], 1)}, ([], []), "lost")
+
+
+def lanes():
+    return placed(lanes_yard(), 0, [((0, 0), 0, "k"), ((1, 0), 1, "k")])
+
+
+def race(turn, own, other):
+    return placed(race_yard(), turn, [(own, 0, "c"), (other, 1, "c")])
+
+
+def just_150():
+    kinds = {"k": ([(0, -2), (0, 1)], [], 1), "p": ([(1, 0)], [], 0)}
+    yard = Yard(3, 4, [], kinds, ([], []), "drawn")
+    return yard, (1, (((0, 0), 0, "p"), ((0, 2), 1, "k"), ((1, 2), 1, "k"), ((1, 3), 0, "k")))
+
+
+def just_151():
+    kinds = {"k": ([(0, -1), (2, 1)], [], 1), "p": ([(-1, -2)], [], 0)}
+    yard = Yard(3, 4, [], kinds, ([], []), "drawn")
+    pieces = (((0, 0), 0, "k"), ((0, 1), 1, "p"), ((0, 2), 0, "k"), ((2, 0), 1, "k"), ((2, 3), 1, "k"))
+    return yard, (0, pieces)
+
+
+def ranked_samples():
+    # Yards, positions and their true ranks, where the reach is small enough.
+    found = []
+    for yard in (race_yard(), lanes_yard(), chess_yard(1, 5, "lost"), small_yards()[5], small_yards()[6]):
+        for position in chance_positions(yard, 8, 3, 31):
+            if len(naive.reach(yard, position)) <= 150:
+                found.append((yard, position, naive.ranks(yard, position)))
     return found
 
 

@@ -10,7 +10,8 @@ from pieceyard.trees import depth, least, turned_tree, win_holds, win_tree
 from pieceyard.yards import Yard
 from tests import naive
 from tests.samples import (
-    chance_positions, chess_yard, fields, no_two_are_one, parts, plain_yard, race_yard, small_yards, square_yard,
+    chance_positions, chess_yard, fields, no_two_are_one, parts, plain_yard, race, race_yard, small_yards,
+    square_yard,
 )
 
 FAR = 10 ** 5000
@@ -86,10 +87,6 @@ def is_of(tree, leaf):
     if tree[0] == "all":
         return bool(tree[1]) and all(is_of(rest, leaf) for move, rest in tree[1])
     return tree == leaf
-
-
-def race(turn, own, other, more=()):
-    return placed(race_yard(), turn, [(own, 0, "c"), (other, 1, "c")] + list(more))
 
 
 class LeastTest(unittest.TestCase):
