@@ -291,3 +291,22 @@ def solved(yard, position, side, most):
     for move, place in behind:
         if numbers[move] == fewest:
             return ("move", move, solved(yard, place, side, most - 1))
+
+
+def numbers(yard, position, side, most, line):
+    places = [position]
+    for move in line:
+        places.append(after(places[-1], move))
+    return [least(yard, place, side, most) for place in places]
+
+
+def best_lines(yard, position, side, number):
+    # Of a position whose least number is handed in.
+    if number == 0:
+        return [[]]
+    found = []
+    for move in moves(yard, position):
+        place = after(position, move)
+        if least(yard, place, side, number) == number - 1:
+            found.extend([move] + rest for rest in best_lines(yard, place, side, number - 1))
+    return found

@@ -17,7 +17,7 @@ class ReadmeTest(unittest.TestCase):
                 continue
             told = eval(code, names)
             # A remark begins with what is told, where that is short enough to be written.
-            shown = re.match(r"(None|True|False|\d+|\[.*\])(?::|\Z)", remark)
+            shown = re.match(r'(None|True|False|\d+|\[.*\]|"[^"]*")(?::|\Z)', remark)
             if shown:
                 looked_at += 1
                 with self.subTest(code=code):
