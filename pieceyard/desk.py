@@ -4,9 +4,8 @@ from pieceyard.contrary import kept_off_by
 from pieceyard.errors import BadText, Ended, NoMove, Nothing
 from pieceyard.lines import walked
 from pieceyard.moves import after
-from pieceyard.notes import (
-    check_text, line_text, position_text, read_line, read_position, read_rows, read_yard, rows_text, yard_text,
-)
+from pieceyard.notes import check_text, line_text, position_text, read_line, read_position
+from pieceyard.notes import read_rows, read_yard, rows_text, yard_text
 from pieceyard.positions import check_asked, check_position
 from pieceyard.trees import MOST_MOVES, Search, won_by
 from pieceyard.yards import Yard

@@ -33,6 +33,13 @@ NO_TREES = {
     "leaves of both kinds further down": (
         "all", [(MOVE, ("move", MOVE, WON)), (((0, 0), (1, 1)), ("all", [(MOVE, NOT)]))]
     ),
+    "a move of one cell": ("move", ((0, 0),), WON),
+    "a move of three cells": ("move", ((0, 0), (0, 1), (0, 2)), WON),
+    "a move of shorter cells": ("move", ((0,), (1,)), WON),
+    "a move that is none": ("move", (), WON),
+    "a row's move of one cell": ("all", [(((0, 0),), NOT)]),
+    "a cell of texts": ("all", [(((0, 0), ("0", "1")), NOT)]),
+    "rows in a tuple": ("all", ((MOVE, WON),)),
     "deep down no tree": ("move", MOVE, ("all", [(MOVE, ("move", MOVE, ("all", [(MOVE, ("move", MOVE))])))])),
 }
 

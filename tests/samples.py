@@ -109,6 +109,11 @@ def lanes():
     return placed(lanes_yard(), 0, [((0, 0), 0, "k"), ((1, 0), 1, "k")])
 
 
+def one_way_yard():
+    # Crowns that never go back: they meet, or stand still at last, which is drawn.
+    return Yard(2, 3, [], {"k": ([(0, 1), (1, 0)], [], 1)}, ([], []), "drawn")
+
+
 def race(turn, own, other):
     return placed(race_yard(), turn, [(own, 0, "c"), (other, 1, "c")])
 
@@ -129,7 +134,8 @@ def just_151():
 def ranked_samples():
     # Yards, positions and their true ranks, where the reach is small enough.
     found = []
-    for yard in (race_yard(), lanes_yard(), chess_yard(1, 5, "lost"), small_yards()[5], small_yards()[6]):
+    rows = (chess_yard(1, 5, "lost"), small_yards()[5], small_yards()[6])
+    for yard in (race_yard(), lanes_yard(), one_way_yard()) + rows:
         for position in chance_positions(yard, 8, 3, 31):
             if len(naive.reach(yard, position)) <= 150:
                 found.append((yard, position, naive.ranks(yard, position)))

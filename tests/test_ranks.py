@@ -10,7 +10,8 @@ from pieceyard.trees import least
 from pieceyard.yards import Yard
 from tests import naive
 from tests.samples import (
-    chess_yard, fields, just_150, just_151, lanes, lanes_yard, no_two_are_one, race, race_yard, ranked_samples,
+    chess_yard, fields, just_150, just_151, lanes, lanes_yard, no_two_are_one, one_way_yard, race, race_yard,
+    ranked_samples,
 )
 
 FAR = 10 ** 5000
@@ -93,6 +94,15 @@ class RanksTest(unittest.TestCase):
             for number in range(5):
                 self.assertIn((side, number), seen)
         self.assertIn(None, seen)
+
+    def test_drawn_ends_beside_won_ones(self):
+        yard = one_way_yard()
+        position = (0, (((0, 0), 0, "k"), ((1, 2), 1, "k")))
+        told = ranks(yard, position)
+        self.assertEqual(told, naive.ranks(yard, position))
+        self.assertIn("drawn", [verdict(yard, place) for place in told])
+        self.assertEqual(set(told.values()), {None, (0, 0), (0, 1), (0, 2), (0, 3)})
+        self.assertIs(ranks_hold(yard, told), True)
 
     def test_they_are_least_numbers(self):
         for yard, position, wanted in ranked_samples():
@@ -185,7 +195,7 @@ class RanksHoldTest(unittest.TestCase):
                     ranks_hold(yard, {wrong: rank})
                 with self.assertRaises(BadPaper):
                     ranks_hold(yard, {**good, wrong: rank})
-        for rank in [(2, 0), (-1, 0), (FAR, 0), (0, -1), (1, -FAR), (0,), (), (0, 0, 0), (0, 1, None)]:
+        for rank in [(2, 0), (-1, 0), (FAR, 0), (0, -1), (1, -FAR), (0,), (), (0, 0, 0), (0, 1, None), (0, None), (None, 0)]:
             with self.assertRaises(BadPaper):
                 ranks_hold(yard, {(0, pieces): rank})
             with self.assertRaises(BadPaper):
@@ -229,9 +239,14 @@ class WinMoveTest(unittest.TestCase):
     def test_no_win(self):
         yard = race_yard()
         told = ranks(yard, race(0, (2, 0), (2, 2)))
-        for place, rank in told.items():
-            if verdict(yard, place) is not None or rank is None or rank[0] != place[0]:
-                self.refused(NoWin, yard, told, place)
+        others = 0
+        for sample, position, paper in ranked_samples():
+            for place, rank in paper.items():
+                if verdict(sample, place) is not None or rank is None or rank[0] != place[0]:
+                    self.refused(NoWin, sample, paper, place)
+                    others += rank is not None and rank[1] > 0
+        # Among them are some from which the other side wins, and which go on.
+        self.assertGreater(others, 0)
         self.refused(NoWin, yard, told, race(0, (2, 1), (2, 2)))
         self.refused(NoWin, yard, {}, race(0, (2, 0), (2, 2)))
         self.refused(NoWin, yard, {race(0, (3, 0), (2, 2)): (0, 0)}, race(0, (3, 0), (2, 2)))

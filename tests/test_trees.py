@@ -6,7 +6,7 @@ from pieceyard.errors import BadPaper, BadPosition, BadSide, NoKin, TooMany
 from pieceyard.kin import bears, move_over, taken_over
 from pieceyard.moves import after, moves
 from pieceyard.positions import placed
-from pieceyard.trees import depth, least, turned_tree, win_holds, win_tree
+from pieceyard.trees import Search, depth, least, turned_tree, win_holds, win_tree
 from pieceyard.yards import Yard
 from tests import naive
 from tests.papers import MOVE, NO_TREES, branch
@@ -98,6 +98,23 @@ class LeastTest(unittest.TestCase):
             self.assertIsNone(least(yard, position, side, 8))
             self.assertIsNone(win_tree(yard, position, side, 8))
             self.assertEqual(not_tree(yard, position, side, 8), NOT)
+
+
+class SearchTest(unittest.TestCase):
+    def test_asked_again_with_other_bounds(self):
+        # One search is asked for numbers of many positions, deep and shallow by turns; what it keeps misleads nobody.
+        greater = 0
+        for yard in (race_yard(), chess_yard(1, 5, "lost"), chess_yard(2, 3, "lost"), small_yards()[6]):
+            for position in chance_positions(yard, 4, 3, 28):
+                for side in (0, 1):
+                    search = Search(yard, side)
+                    places = [position] + [after(yard, position, move) for move in moves(yard, position)]
+                    for most in (4, 0, 2, 1, 5, 3, 4):
+                        for place in places:
+                            told = search.number(place, most)
+                            self.assertEqual(told, least(yard, place, side, most))
+                            greater += told is None and least(yard, place, side, 5) is not None
+        self.assertGreater(greater, 0)
 
 
 class ToldTreesTest(unittest.TestCase):
